@@ -1,0 +1,1 @@
+"""Lastother: calls in a lineup."""

@@ -1,0 +1,93 @@
+"""The interface at the end of the document, and the sizes and characters of the files."""
+
+import ast
+import inspect
+import os
+import unittest
+from importlib import import_module
+
+FUNCTIONS = {
+    "lineups": {
+        "is_lineup": ["value"], "front_color": ["lineup"], "second_color": ["lineup"],
+        "color_runs": ["lineup"], "colors_in_order": ["lineup"], "count_of": ["lineup", "color"],
+        "people_ahead_of": ["lineup", "color"],
+    },
+    "calls": {
+        "color_taken": ["lineup", "person"], "colors_taken_by_each": ["lineup"],
+        "colors_taken": ["lineup", "calls"], "shorten_calls": ["calls"], "lineup_after": ["lineup", "calls"],
+    },
+}
+CLASSES = {
+    "errors": [
+        "LineupError", "InvalidLineupError", "InvalidPersonError", "InvalidColorError", "InvalidColorsError",
+        "InvalidChainError", "InvalidBoundError", "InvalidNumberError", "InvalidOrderError",
+        "InvalidPositionError", "EmptyHistoryError", "InvalidCallsError", "TooManyPeopleError",
+        "InvalidTextError",
+    ],
+}
+FOLDER = os.path.join(os.path.dirname(os.path.dirname(os.path.abspath(__file__))), "lastother")
+
+
+def source(name):
+    with open(os.path.join(FOLDER, name), encoding="utf-8") as file:
+        return file.read()
+
+
+def defined_in(name):
+    """The functions and classes that stand at module level of the file, by their names."""
+    kinds = (ast.FunctionDef, ast.ClassDef)
+    return {node.name: node for node in ast.parse(source(name + ".py")).body if isinstance(node, kinds)}
+
+
+class Interface(unittest.TestCase):
+    def test_functions_are_defined_in_their_files_with_their_arguments(self):
+        for file, functions in FUNCTIONS.items():
+            module = import_module("lastother." + file)
+            nodes = defined_in(file)
+            for name, arguments in functions.items():
+                with self.subTest(file=file, name=name):
+                    self.assertIsInstance(nodes.get(name), ast.FunctionDef)
+                    self.assertEqual(list(inspect.signature(getattr(module, name)).parameters), arguments)
+
+    def test_classes_are_defined_in_their_files(self):
+        for file, classes in CLASSES.items():
+            nodes = defined_in(file)
+            for name in classes:
+                with self.subTest(file=file, name=name):
+                    self.assertIsInstance(nodes.get(name), ast.ClassDef)
+
+
+class Files(unittest.TestCase):
+    def names(self):
+        return [name for name in sorted(os.listdir(FOLDER)) if name != "__pycache__"]
+
+    def test_the_folder_holds_python_files_only(self):
+        for name in self.names():
+            self.assertTrue(name.endswith(".py"), name)
+        self.assertIn("__init__.py", self.names())
+
+    def test_sizes_and_characters(self):
+        for name in self.names():
+            lines = source(name).split("\n")
+            with self.subTest(name):
+                self.assertLessEqual(len(lines), 399)
+                for line in lines:
+                    self.assertLessEqual(len(line), 120)
+                    self.assertTrue(all(" " <= sign <= "~" for sign in line), line)
+
+    def test_functions_are_short(self):
+        for name in self.names():
+            for node in ast.walk(ast.parse(source(name))):
+                if isinstance(node, ast.FunctionDef):
+                    self.assertLessEqual(node.end_lineno - node.lineno + 1, 40, node.name)
+
+    def test_imports_are_of_the_package_only(self):
+        for name in self.names():
+            for node in ast.walk(ast.parse(source(name))):
+                self.assertNotIsInstance(node, ast.Import)
+                if isinstance(node, ast.ImportFrom):
+                    self.assertTrue(node.module.startswith("lastother."), node.module)
+
+
+if __name__ == "__main__":
+    unittest.main()
