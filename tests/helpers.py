@@ -1,6 +1,6 @@
 """What several test files use: lineups, wrong values, and a call worked out by hand."""
 
-from itertools import permutations, product
+from itertools import combinations, permutations, product
 
 L = [(0, "a"), (1, "b"), (2, "c"), (3, "a")]
 M = [(0, "a"), (1, "b"), (2, "c")]
@@ -124,9 +124,23 @@ WRONG_COLORS = [
     None, True, 0, 1, b"a", ["a"], ("a",), {"a": 1}, TextKind("a"), object(), Touchy(),
 ]
 
+WRONG_COLOR_SETS = [
+    "", "A", "Z", "aB", "Ab", "`a", "a{", "a b", " a", "a ", "a,b", "a1", "0", "\u00e9", "a\u00e9",
+    "ba", "acb", "zy", "aa", "abb", "aab", "abca", LETTERS[::-1], LETTERS + "z", LETTERS * 2, "a" * 4000,
+    ["a"], ["a", "b"], [], ("a",), {"a"}, {"a": 1}, b"a", None, True, False, 0, 1, 0.5,
+    TextKind("a"), TextKind("ab"), object(), circle(), Touchy(),
+]
+
 WRONG_INTEGERS = [True, False, None, "0", "", 0.0, [0], (0,), b"0", -1, -(10 ** 30), {0: 0}, object(), Touchy()]
 
 WRONG_LISTS = [(), (0,), (0, 1), None, True, 0, "01", "", b"0", {0: 1}, {0}, range(2), ListKind([0]), object(), Touchy()]
+
+
+def color_sets(letters):
+    """Every color set of these letters, which are in ascending order."""
+    for size in range(1, len(letters) + 1):
+        for chosen in combinations(letters, size):
+            yield "".join(chosen)
 
 
 def small_lineups(most, letters):
@@ -150,11 +164,76 @@ def call_by_hand(lineup, person):
     return [(someone, worn[someone]) for someone in order], taken
 
 
-def long_calls(people, length):
+def long_calls(people, length, state=7):
     """A fixed list of calls in no simple order."""
     calls = []
-    state = 7
     for _ in range(length):
         state = (state * 1103515245 + 12345) & 0x7FFFFFFF
         calls.append((state >> 8) % people)
     return calls
+
+
+def mixed_lineup(size, letters, number):
+    """A fixed lineup in no simple order, another one for each number."""
+    persons = list(range(size))
+    for place, other in enumerate(long_calls(size, size, 1000 + number)):
+        persons[place], persons[other] = persons[other], persons[place]
+    colors = [letters[k] for k in long_calls(len(letters), size, 5000 + number)]
+    return list(zip(persons, colors))
+
+
+def colors_of(lineup):
+    """The colors from the front as one string."""
+    return "".join(color for _, color in lineup)
+
+
+def goal_place(lineup, colors):
+    """The place of the first person with a color of the set, or None."""
+    places = [place for place, (_, color) in enumerate(lineup) if color in colors]
+    return places[0] if places else None
+
+
+def outside_by_hand(lineup, colors):
+    """The persons whose color is not in the set."""
+    return [person for person, color in lineup if color not in colors]
+
+
+def in_the_way_by_hand(lineup, color, place):
+    """The persons in front of this place who do not have the color."""
+    return [person for person, worn in lineup[:place] if worn != color]
+
+
+def is_chain_by_hand(lineup, colors, chain):
+    """Whether a list of colors is a chain, sentence by sentence as section 3 says."""
+    text, goal = colors_of(lineup), goal_place(lineup, colors)
+    if goal is None:
+        return False
+    if text[0] in colors:
+        return chain == []
+    if len(set(chain)) != len(chain) or any(color in colors for color in chain):
+        return False
+    if chain[:1] != [text[0]] or any(color not in text for color in chain):
+        return False
+    if any(text.find(after) <= text.find(before) for before, after in zip(chain, chain[1:])):
+        return False
+    return all(text.find(color) < goal for color in chain)
+
+
+def steps_by_hand(lineup, colors, chain):
+    """The people of each step of a chain, the last step too, as section 8 says."""
+    text = colors_of(lineup)
+    ends = [text.find(color) for color in chain[1:]] + [goal_place(lineup, colors)]
+    steps = [in_the_way_by_hand(lineup, color, end) for color, end in zip(chain, ends)]
+    return steps + [outside_by_hand(lineup, colors)]
+
+
+def cost_by_hand(lineup, colors, chain):
+    """The cost of a chain as section 3 says."""
+    return sum(len(people) for people in steps_by_hand(lineup, colors, chain))
+
+
+def chains_by_hand(lineup, colors):
+    """Every chain, found among all lists of colors in the order of their first persons."""
+    order = list(dict.fromkeys(colors_of(lineup)))
+    lists = [list(chosen) for size in range(len(order) + 1) for chosen in combinations(order, size)]
+    return [chain for chain in lists if is_chain_by_hand(lineup, colors, chain)]

@@ -3,6 +3,7 @@
 import unittest
 from itertools import product
 
+from lastother.called import called_colors, color_arrivals, single_color_moments
 from lastother.calls import color_taken, colors_taken, colors_taken_by_each, lineup_after
 from tests.helpers import long_calls, small_lineups
 
@@ -61,6 +62,10 @@ class CalledPeople(unittest.TestCase):
             if len(before) == 2:
                 self.assertLessEqual(set(colors), set(before))
             before = colors
+        self.assertTrue(all(len(text) <= 2 for text in called_colors(lineup, calls)))
+        alone = single_color_moments(lineup, calls)
+        for k, _ in color_arrivals(lineup, calls):
+            self.assertTrue(k == 1 or k - 1 in alone)
 
     def test_small_lineups(self):
         for lineup in small_lineups(3, "abc"):

@@ -16,6 +16,19 @@ FUNCTIONS = {
         "color_taken": ["lineup", "person"], "colors_taken_by_each": ["lineup"],
         "colors_taken": ["lineup", "calls"], "shorten_calls": ["calls"], "lineup_after": ["lineup", "calls"],
     },
+    "called": {
+        "called_colors": ["lineup", "calls"], "single_color_moments": ["lineup", "calls"],
+        "color_arrivals": ["lineup", "calls"], "called_sides": ["lineup", "calls"],
+    },
+    "fewest": {
+        "fewest_calls": ["lineup", "colors"], "fewest_calls_to_take": ["lineup", "color"],
+        "fewest_calls_to_one_color": ["lineup"], "best_chain": ["lineup", "colors"],
+    },
+    "certificates": {
+        "is_chain": ["lineup", "colors", "value"], "is_bound": ["lineup", "value"],
+        "chain_cost": ["lineup", "colors", "chain"], "calls_for_chain": ["lineup", "colors", "chain"],
+        "greatest_bound": ["lineup"], "bound_value": ["lineup", "colors", "bound"],
+    },
 }
 CLASSES = {
     "errors": [

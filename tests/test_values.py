@@ -3,17 +3,27 @@
 import copy
 import unittest
 
+from lastother.called import called_colors, called_sides, color_arrivals, single_color_moments
 from lastother.calls import color_taken, colors_taken, colors_taken_by_each, lineup_after, shorten_calls
-from lastother.errors import InvalidCallsError, InvalidColorError, InvalidLineupError, InvalidPersonError
+from lastother.certificates import bound_value, calls_for_chain, chain_cost, greatest_bound, is_bound, is_chain
+from lastother.errors import (
+    InvalidBoundError, InvalidCallsError, InvalidChainError, InvalidColorError, InvalidColorsError, InvalidLineupError,
+    InvalidPersonError,
+)
+from lastother.fewest import best_chain, fewest_calls, fewest_calls_to_one_color, fewest_calls_to_take
 from lastother.lineups import (
     color_runs, colors_in_order, count_of, front_color, is_lineup, people_ahead_of, second_color,
 )
-from tests.helpers import L
+from tests.helpers import L, M
 
 # The same people in another order and with other colors.
 OTHER = [(2, "b"), (1, "b"), (0, "d"), (3, "a")]
 
-# function, arguments by name, result, the name of a list, what it is changed to, result then
+BOUND = {"a": 0, "b": 0, "c": 1}
+# The same colors as in L, in another order.
+TURNED = [(3, "c"), (1, "b"), (2, "b"), (0, "a")]
+
+# function, arguments by name, result, the name of a list or dict, what it is changed to, result then
 CASES = [
     (is_lineup, {"value": L}, True, "value", [(0, "a"), (0, "a")], False),
     (front_color, {"lineup": L}, "a", "lineup", OTHER, "b"),
@@ -34,6 +44,36 @@ CASES = [
     (lineup_after, {"lineup": L, "calls": []}, L, "lineup", OTHER, OTHER),
     (shorten_calls, {"calls": [0, 0, 0, 1]}, [0, 1], "calls", [2, 2], [2, 2]),
     (shorten_calls, {"calls": [0, 1]}, [0, 1], "calls", [], []),
+    (called_colors, {"lineup": L, "calls": [1, 0]}, ["", "a", "ac"], "lineup", OTHER, ["", "d", "bd"]),
+    (called_colors, {"lineup": L, "calls": [1, 0]}, ["", "a", "ac"], "calls", [0], ["", "b"]),
+    (called_colors, {"lineup": L, "calls": []}, [""], "calls", [2], ["", "a"]),
+    (single_color_moments, {"lineup": L, "calls": [1, 0]}, [1], "lineup", M, [1]),
+    (single_color_moments, {"lineup": L, "calls": [1, 0]}, [1], "calls", [0, 0], [1, 2]),
+    (single_color_moments, {"lineup": L, "calls": []}, [], "calls", [3], [1]),
+    (color_arrivals, {"lineup": L, "calls": [1, 0]}, [(1, "a"), (2, "c")], "lineup", OTHER, [(1, "d"), (2, "b")]),
+    (color_arrivals, {"lineup": L, "calls": [1, 0]}, [(1, "a"), (2, "c")], "calls", [0], [(1, "b")]),
+    (called_sides, {"lineup": L, "calls": [1, 0]}, ([0], [1]), "lineup", [(1, "a"), (0, "b")], ([0, 1], [])),
+    (called_sides, {"lineup": L, "calls": [1, 0]}, ([0], [1]), "calls", [0, 3, 1], ([1], [0, 3])),
+    (called_sides, {"lineup": L, "calls": []}, ([], []), "calls", [2], ([2], [])),
+    (fewest_calls, {"lineup": L, "colors": "c"}, 4, "lineup", TURNED, 3),
+    (fewest_calls_to_one_color, {"lineup": L}, 2, "lineup", OTHER, 2),
+    (fewest_calls_to_one_color, {"lineup": L}, 2, "lineup", [(1, "z"), (0, "z")], 0),
+    (fewest_calls_to_take, {"lineup": L, "color": "c"}, 2, "lineup", TURNED, 1),
+    (best_chain, {"lineup": L, "colors": "c"}, ["a"], "lineup", TURNED, []),
+    (best_chain, {"lineup": TURNED, "colors": "a"}, ["c", "b"], "lineup", L, []),
+    (best_chain, {"lineup": L, "colors": "a"}, [], "lineup", TURNED, ["c", "b"]),
+    (is_chain, {"lineup": L, "colors": "c", "value": ["a", "b"]}, True, "lineup", TURNED, False),
+    (is_chain, {"lineup": L, "colors": "c", "value": ["a", "b"]}, True, "value", ["b", "a"], False),
+    (chain_cost, {"lineup": TURNED, "colors": "a", "chain": ["c", "b"]}, 4, "chain", ["c"], 5),
+    (chain_cost, {"lineup": L, "colors": "c", "chain": ["a"]}, 4, "lineup", [(0, "a"), (1, "c")], 1),
+    (calls_for_chain, {"lineup": L, "colors": "c", "chain": ["a", "b"]}, [0, 0, 1, 3], "chain", ["a"], [1, 0, 1, 3]),
+    (calls_for_chain, {"lineup": L, "colors": "c", "chain": ["a"]}, [1, 0, 1, 3], "lineup", [(1, "a"), (0, "c")], [1]),
+    (calls_for_chain, {"lineup": L, "colors": "abc", "chain": []}, [], "lineup", [(1, "a"), (0, "d")], [0]),
+    (is_bound, {"lineup": L, "value": BOUND}, True, "lineup", OTHER, False),
+    (is_bound, {"lineup": L, "value": BOUND}, True, "value", {"a": 0, "b": 0, "c": 2}, False),
+    (greatest_bound, {"lineup": L}, BOUND, "lineup", OTHER, {"b": 0, "d": 0, "a": 1}),
+    (bound_value, {"lineup": L, "colors": "c", "bound": BOUND}, 4, "bound", {"c": 0, "a": 0, "b": 0}, 3),
+    (bound_value, {"lineup": L, "colors": "c", "bound": BOUND}, 4, "lineup", [(0, "b"), (1, "a"), (2, "c")], 3),
 ]
 
 WRONG = [(0, "a"), (2, "b"), (1, "B")]
@@ -56,7 +96,62 @@ FAILURES = [
     (lineup_after, {"lineup": WRONG, "calls": [0]}, InvalidLineupError),
     (lineup_after, {"lineup": L, "calls": [1, 0, 4]}, InvalidCallsError),
     (shorten_calls, {"calls": [0, 0, 1, -1]}, InvalidCallsError),
+    (called_colors, {"lineup": WRONG, "calls": [0]}, InvalidLineupError),
+    (called_colors, {"lineup": L, "calls": [1, 0, 4]}, InvalidCallsError),
+    (single_color_moments, {"lineup": WRONG, "calls": [0]}, InvalidLineupError),
+    (single_color_moments, {"lineup": L, "calls": [1, 0, 4]}, InvalidCallsError),
+    (color_arrivals, {"lineup": WRONG, "calls": [0]}, InvalidLineupError),
+    (color_arrivals, {"lineup": L, "calls": [1, 0, 4]}, InvalidCallsError),
+    (called_sides, {"lineup": WRONG, "calls": [0]}, InvalidLineupError),
+    (called_sides, {"lineup": L, "calls": [1, 0, 4]}, InvalidCallsError),
+    (fewest_calls, {"lineup": WRONG, "colors": "a"}, InvalidLineupError),
+    (fewest_calls, {"lineup": L, "colors": ["b", "a"]}, InvalidColorsError),
+    (fewest_calls_to_one_color, {"lineup": WRONG}, InvalidLineupError),
+    (fewest_calls_to_take, {"lineup": WRONG, "color": "a"}, InvalidLineupError),
+    (fewest_calls_to_take, {"lineup": L, "color": ["a"]}, InvalidColorError),
+    (best_chain, {"lineup": WRONG, "colors": "a"}, InvalidLineupError),
+    (best_chain, {"lineup": L, "colors": ["b", "a"]}, InvalidColorsError),
+    (is_chain, {"lineup": WRONG, "colors": "a", "value": []}, InvalidLineupError),
+    (is_chain, {"lineup": L, "colors": ["b", "a"], "value": ["a"]}, InvalidColorsError),
+    (chain_cost, {"lineup": WRONG, "colors": "a", "chain": []}, InvalidLineupError),
+    (chain_cost, {"lineup": L, "colors": ["b", "a"], "chain": ["a"]}, InvalidColorsError),
+    (chain_cost, {"lineup": L, "colors": "c", "chain": ["b", "a"]}, InvalidChainError),
+    (calls_for_chain, {"lineup": WRONG, "colors": "a", "chain": []}, InvalidLineupError),
+    (calls_for_chain, {"lineup": L, "colors": ["b", "a"], "chain": ["a"]}, InvalidColorsError),
+    (calls_for_chain, {"lineup": L, "colors": "c", "chain": ["a", "b", "b"]}, InvalidChainError),
+    (is_bound, {"lineup": WRONG, "value": {"a": 0}}, InvalidLineupError),
+    (greatest_bound, {"lineup": WRONG}, InvalidLineupError),
+    (bound_value, {"lineup": WRONG, "colors": "a", "bound": {"a": 0}}, InvalidLineupError),
+    (bound_value, {"lineup": L, "colors": ["b", "a"], "bound": BOUND}, InvalidColorsError),
+    (bound_value, {"lineup": L, "colors": "c", "bound": {"b": 0, "c": 2, "a": 0}}, InvalidBoundError),
 ]
+
+
+def refill(value, content):
+    """Give a list or a dict other content, in place."""
+    value.clear()
+    if type(value) is dict:
+        value.update(content)
+    else:
+        value.extend(content)
+
+
+def parts(result):
+    """The lists and dicts of a result that can be changed."""
+    if type(result) is tuple:
+        return [part for part in result if type(part) in (list, dict)]
+    return [result] if type(result) in (list, dict) else []
+
+
+def spoil(part):
+    """Change a returned list or dict wherever it can be changed."""
+    if type(part) is dict:
+        for key in part:
+            part[key] = "other"
+        part["more"] = "more"
+    else:
+        part.append("more")
+        part[0] = "other"
 
 
 class Values(unittest.TestCase):
@@ -73,6 +168,9 @@ class Values(unittest.TestCase):
             with self.subTest(function.__name__):
                 function(**given)
                 self.assertEqual(given, named)
+                for name, value in named.items():
+                    if type(value) is dict:
+                        self.assertEqual(list(given[name]), list(value))
 
     def test_arguments_are_unchanged_by_a_failure(self):
         for function, named, error in FAILURES:
@@ -90,37 +188,37 @@ class Values(unittest.TestCase):
             with self.subTest(function.__name__):
                 self.assertEqual(function(**copy.deepcopy(named)), result)
 
-    def test_is_lineup_leaves_other_values_as_they_are(self):
-        for value in ([(0, "a"), (1, "B")], [[0, "a"]], {"a": [1]}, (1, 2), [(0, ["a"])]):
+    def test_questions_leave_other_values_as_they_are(self):
+        for value in ([(0, "a"), (1, "B")], [[0, "a"]], {"a": [1]}, (1, 2), [(0, ["a"])], ["b", "a"], {"c": 0, "a": 9}):
             given = copy.deepcopy(value)
             self.assertIs(is_lineup(given), False)
+            self.assertIs(is_chain(L, "c", given), False)
+            self.assertIs(is_bound(L, given), False)
             self.assertEqual(given, value)
 
-    def test_the_same_list_changed_in_place(self):
+    def test_the_same_argument_changed_in_place(self):
         for function, named, result, name, changed, then in CASES:
             given = copy.deepcopy(named)
             with self.subTest(function.__name__):
                 first = function(**given)
                 self.assertEqual(first, result)
-                given[name][:] = changed
+                refill(given[name], changed)
                 self.assertEqual(first, result)
                 self.assertEqual(function(**given), then)
-                given[name][:] = named[name]
+                refill(given[name], named[name])
                 self.assertEqual(function(**given), result)
 
-    def test_a_returned_list_that_is_changed(self):
+    def test_a_returned_list_or_dict_that_is_changed(self):
         for function, named, result, _, _, _ in CASES:
-            if type(result) is not list:
-                continue
             given = copy.deepcopy(named)
             with self.subTest(function.__name__):
-                first, second = function(**given), function(**given)
-                self.assertIsNot(first, second)
-                for argument in given.values():
-                    self.assertIsNot(first, argument)
-                first.append("more")
-                first[0] = "other"
-                self.assertEqual(second, result)
+                first, second = parts(function(**given)), parts(function(**given))
+                known = second + list(given.values())
+                for at, part in enumerate(first):
+                    for other in known + first[:at]:
+                        self.assertIsNot(part, other)
+                    spoil(part)
+                self.assertEqual(second, parts(result))
                 self.assertEqual(given, named)
                 self.assertEqual(function(**given), result)
 
@@ -129,6 +227,12 @@ class Values(unittest.TestCase):
         self.assertTrue(is_lineup(once))
         self.assertEqual(lineup_after(once, [3]), lineup_after(L, [1, 0, 3]))
         self.assertEqual(shorten_calls(shorten_calls([0, 0, 0, 1, 1])), [0, 1, 1])
+        chain = best_chain(once, "c")
+        self.assertTrue(is_chain(once, "c", chain))
+        self.assertEqual(len(calls_for_chain(once, "c", chain)), chain_cost(once, "c", chain))
+        after = lineup_after(once, calls_for_chain(once, "c", chain))
+        self.assertEqual(fewest_calls(after, "c"), 0)
+        self.assertEqual(bound_value(once, "c", greatest_bound(once)), fewest_calls(once, "c"))
 
 
 if __name__ == "__main__":
