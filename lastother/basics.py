@@ -1,9 +1,25 @@
 """Checks of single values, and runs of equal values."""
 
+from lastother.errors import InvalidNumberError
+
+# The largest index and the largest number of rounds.
+LARGEST_NUMBER = 10 ** 30
+
 
 def is_integer(value):
     """Return whether the value is an int that is not a bool."""
     return isinstance(value, int) and not isinstance(value, bool)
+
+
+def is_integer_between(value, least, most):
+    """Return whether the value is an integer from the least to the most."""
+    return is_integer(value) and least <= value <= most
+
+
+def check_number(value, least, most):
+    """Raise InvalidNumberError if the value is not an integer from the least to the most."""
+    if not is_integer_between(value, least, most):
+        raise InvalidNumberError("not a number that may stand there")
 
 
 def is_color(value):

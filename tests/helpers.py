@@ -151,6 +151,13 @@ def small_lineups(most, letters):
                 yield list(zip(order, colors))
 
 
+def color_patterns(size):
+    """Every row of this many colors, each other than the others by more than the names of its colors."""
+    for colors in product(LETTERS[:size], repeat=size):
+        if "".join(dict.fromkeys(colors)) == LETTERS[:len(set(colors))]:
+            yield "".join(colors)
+
+
 def call_by_hand(lineup, person):
     """A tuple: the lineup after a call, and the color taken, word by word as section 3 says."""
     order = [someone for someone, _ in lineup]

@@ -1,4 +1,4 @@
-"""Fewest calls found by a search over all lineups of one size, without a formula."""
+"""Fewest calls and the call lists with so many, found by a search over all lineups of one size."""
 
 from itertools import permutations, product
 
@@ -11,10 +11,12 @@ class Search:
     def __init__(self, size, letters):
         self.lineups = self.all_lineups(size, letters)
         self.befores = {lineup: [] for lineup in self.lineups}
+        self.afters = {lineup: [] for lineup in self.lineups}
         self.takings = {lineup: [] for lineup in self.lineups}
         for lineup in self.lineups:
             for person in range(size):
                 after, taken = call_by_hand(lineup, person)
+                self.afters[lineup].append(self.known(after))
                 self.befores[self.known(after)].append(lineup)
                 self.takings[lineup].append(taken)
 
@@ -52,6 +54,18 @@ class Search:
         """The fewest calls of which the last one takes the color."""
         goals = [lineup for lineup in self.lineups if color in self.takings[lineup]]
         return {lineup: calls + 1 for lineup, calls in self.calls_to(goals).items()}
+
+    def optimal_lists(self, colors):
+        """The call lists of the fewest calls, in ascending list order, from each lineup that has some."""
+        calls = self.calls_to_colors(colors)
+        lists = {}
+        for lineup in calls:
+            # The lineups come with ascending numbers of calls.
+            lists[lineup] = [] if calls[lineup] else [[]]
+            for person, after in enumerate(self.afters[lineup]):
+                if calls.get(after) == calls[lineup] - 1:
+                    lists[lineup].extend([person] + rest for rest in lists[after])
+        return lists
 
 
 class ColorSearch(Search):

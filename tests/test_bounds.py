@@ -7,6 +7,7 @@ from lastother.certificates import bound_value, greatest_bound, is_bound
 from lastother.errors import InvalidBoundError, InvalidColorsError, InvalidLineupError
 from lastother.fewest import fewest_calls
 from lastother.lineups import colors_in_order
+from tests.errorcase import ErrorCase
 from tests.helpers import (
     L, LETTERS, M, N, WRONG_COLOR_SETS, WRONG_LINEUPS, TextKind, Touchy, circle, color_sets, colors_of, goal_place,
     mixed_lineup, outside_by_hand, small_lineups,
@@ -247,12 +248,7 @@ class Value(unittest.TestCase):
         self.assertIs(type(bound_value(L, "c", GREATEST)), int)
 
 
-class Errors(unittest.TestCase):
-    def assert_raises(self, error, function, *args):
-        with self.assertRaises(error) as caught:
-            function(*args)
-        self.assertIs(type(caught.exception), error)
-
+class Errors(ErrorCase):
     def test_no_lineup(self):
         for at, value in enumerate(WRONG_LINEUPS):
             with self.subTest(at):

@@ -4,7 +4,8 @@ import unittest
 from itertools import product
 
 from lastother.called import called_colors, called_sides, color_arrivals, single_color_moments
-from lastother.errors import InvalidCallsError, InvalidLineupError
+from lastother.errors import InvalidLineupError
+from tests.errorcase import ErrorCase
 from tests.helpers import (
     L, LETTERS, M, N, WRONG_INTEGERS, WRONG_LINEUPS, WRONG_LISTS, call_by_hand, long_calls, mixed_lineup,
     small_lineups,
@@ -157,14 +158,7 @@ class Called(unittest.TestCase):
             self.assertIsNot(sides[0], sides[1])
 
 
-class Errors(unittest.TestCase):
-    def assert_index(self, index, function, *args):
-        with self.assertRaises(InvalidCallsError) as caught:
-            function(*args)
-        self.assertIs(type(caught.exception), InvalidCallsError)
-        self.assertEqual(caught.exception.index, index)
-        self.assertIs(type(caught.exception.index), type(index))
-
+class Errors(ErrorCase):
     def test_no_lineup(self):
         for function in FUNCTIONS:
             for at, value in enumerate(WRONG_LINEUPS):

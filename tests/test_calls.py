@@ -4,7 +4,8 @@ import unittest
 from itertools import product
 
 from lastother.calls import color_taken, colors_taken, colors_taken_by_each, lineup_after, shorten_calls
-from lastother.errors import InvalidCallsError, InvalidLineupError, InvalidPersonError
+from lastother.errors import InvalidLineupError, InvalidPersonError
+from tests.errorcase import ErrorCase
 from tests.helpers import (
     L, M, N, WRONG_INTEGERS, WRONG_LINEUPS, WRONG_LISTS, call_by_hand, long_calls, small_lineups,
 )
@@ -146,13 +147,7 @@ class Shortened(unittest.TestCase):
         self.assertEqual(lineup_after(SIXTY, shorten_calls(calls)), lineup_after(SIXTY, calls))
 
 
-class Errors(unittest.TestCase):
-    def assert_index(self, index, function, *args):
-        with self.assertRaises(InvalidCallsError) as caught:
-            function(*args)
-        self.assertEqual(caught.exception.index, index)
-        self.assertIs(type(caught.exception.index), type(index))
-
+class Errors(ErrorCase):
     def test_no_lineup(self):
         for at, value in enumerate(WRONG_LINEUPS):
             with self.subTest(at):

@@ -7,6 +7,7 @@ from lastother.calls import lineup_after
 from lastother.certificates import calls_for_chain, chain_cost, is_chain
 from lastother.errors import InvalidChainError, InvalidColorsError, InvalidLineupError
 from lastother.fewest import best_chain, fewest_calls
+from tests.errorcase import ErrorCase
 from tests.helpers import (
     L, LETTERS, M, N, WRONG_COLOR_SETS, WRONG_LINEUPS, ListKind, TextKind, Touchy, call_by_hand, chains_by_hand,
     circle, color_sets, colors_of, cost_by_hand, is_chain_by_hand, mixed_lineup, small_lineups, steps_by_hand,
@@ -230,12 +231,7 @@ class Calls(unittest.TestCase):
         self.assertTrue(all(type(person) is int for person in calls))
 
 
-class Errors(unittest.TestCase):
-    def assert_raises(self, error, function, *args):
-        with self.assertRaises(error) as caught:
-            function(*args)
-        self.assertIs(type(caught.exception), error)
-
+class Errors(ErrorCase):
     def test_no_lineup(self):
         for function in FUNCTIONS:
             for at, value in enumerate(WRONG_LINEUPS):

@@ -4,6 +4,7 @@ import unittest
 
 from lastother.errors import InvalidColorError, InvalidColorsError, InvalidLineupError
 from lastother.fewest import best_chain, fewest_calls, fewest_calls_to_one_color, fewest_calls_to_take
+from tests.errorcase import ErrorCase
 from tests.helpers import (
     L, LETTERS, M, N, WRONG_COLOR_SETS, WRONG_COLORS, WRONG_LINEUPS, call_by_hand, chains_by_hand, color_sets,
     colors_of, cost_by_hand, in_the_way_by_hand, mixed_lineup, outside_by_hand, steps_by_hand,
@@ -292,12 +293,7 @@ class BestChain(unittest.TestCase):
         self.assertIs(type(best_chain(L, "a")), list)
 
 
-class Errors(unittest.TestCase):
-    def assert_raises(self, error, function, *args):
-        with self.assertRaises(error) as caught:
-            function(*args)
-        self.assertIs(type(caught.exception), error)
-
+class Errors(ErrorCase):
     def test_no_lineup(self):
         for at, value in enumerate(WRONG_LINEUPS):
             with self.subTest(at):

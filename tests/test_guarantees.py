@@ -5,7 +5,12 @@ from itertools import product
 
 from lastother.called import called_colors, color_arrivals, single_color_moments
 from lastother.calls import color_taken, colors_taken, colors_taken_by_each, lineup_after
-from tests.helpers import long_calls, small_lineups
+from lastother.certificates import bound_value, calls_for_chain, chain_cost, greatest_bound
+from lastother.fewest import best_chain, fewest_calls
+from lastother.history import color_history
+from lastother.optimal import count_optimal, improving_people, is_optimal, nth_optimal
+from lastother.rounds import lineup_after_rounds, round_period
+from tests.helpers import color_sets, long_calls, outside_by_hand, small_lineups
 
 WIDE = [((k * 11) % 40, "abcdefgh"[k * k % 8]) for k in range(40)]
 
@@ -76,8 +81,53 @@ class CalledPeople(unittest.TestCase):
         self.check(WIDE, long_calls(40, 200))
 
 
+class FewestCalls(unittest.TestCase):
+    def check(self, lineup, colors):
+        """Check the number of calls in each way that the package has to tell it; return it."""
+        chain = best_chain(lineup, colors)
+        fewest = fewest_calls(lineup, colors)
+        if chain is None:
+            self.assertIsNone(fewest)
+            self.assertEqual(count_optimal(lineup, colors), 0)
+            return None
+        self.assertEqual(fewest, chain_cost(lineup, colors, chain))
+        self.assertEqual(fewest, bound_value(lineup, colors, greatest_bound(lineup)))
+        self.assertIs(is_optimal(lineup, colors, calls_for_chain(lineup, colors, chain)), True)
+        optimal = [nth_optimal(lineup, colors, index) for index in range(count_optimal(lineup, colors))]
+        first = {person for calls in optimal for person in calls[:1]}
+        self.assertEqual(sorted(first), improving_people(lineup, colors))
+        return fewest
+
+    def test_all_call_lists_of_this_length_are_counted_and_indexed(self):
+        for lineup in small_lineups(3, "abc"):
+            for colors in list(color_sets("abc")) + ["d"]:
+                fewest = self.check(lineup, colors)
+                if fewest is None:
+                    continue
+                lists = [list(calls) for calls in product(range(len(lineup)), repeat=fewest)]
+                optimal = [calls for calls in lists if not outside_by_hand(lineup_after(lineup, calls), colors)]
+                self.assertEqual(count_optimal(lineup, colors), len(optimal))
+                for index, calls in enumerate(optimal):
+                    self.assertEqual(nth_optimal(lineup, colors, index), calls)
+
+    def test_optimal_calls_of_a_wide_lineup(self):
+        for colors in ("a", "b", "e", "be"):
+            for index in (0, 10 ** 6, 10 ** 30):
+                calls = nth_optimal(WIDE, colors, min(index, count_optimal(WIDE, colors) - 1))
+                self.assertEqual(len(calls), fewest_calls(WIDE, colors))
+                self.assertIn(calls[0], improving_people(WIDE, colors))
+                self.assertTrue(all(len(text) <= 2 for text in called_colors(WIDE, calls)))
+                # Each call of an optimal call list takes a color.
+                taken = sum(len(entries) - 1 for entries in color_history(WIDE, calls))
+                self.assertEqual(taken, len(calls))
+
+
 class Rounds(unittest.TestCase):
     def check(self, lineup, calls, enough):
+        first, period = round_period(lineup, calls)
+        self.assertIn(period, (1, 2))
+        returning = lineup_after_rounds(lineup, calls, first)
+        self.assertEqual(lineup_after(returning, calls * period), returning)
         for _ in range(enough):
             lineup = lineup_after(lineup, calls)
         self.assertEqual(lineup_after(lineup, calls + calls), lineup)

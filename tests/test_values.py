@@ -8,13 +8,16 @@ from lastother.calls import color_taken, colors_taken, colors_taken_by_each, lin
 from lastother.certificates import bound_value, calls_for_chain, chain_cost, greatest_bound, is_bound, is_chain
 from lastother.errors import (
     InvalidBoundError, InvalidCallsError, InvalidChainError, InvalidColorError, InvalidColorsError, InvalidLineupError,
-    InvalidPersonError,
+    InvalidNumberError, InvalidOrderError, InvalidPersonError,
 )
 from lastother.fewest import best_chain, fewest_calls, fewest_calls_to_one_color, fewest_calls_to_take
+from lastother.history import can_swap_calls, changed_without, color_history, redundant_calls
 from lastother.lineups import (
     color_runs, colors_in_order, count_of, front_color, is_lineup, people_ahead_of, second_color,
 )
-from tests.helpers import L, M
+from lastother.optimal import count_optimal, fewest_after_each, improving_people, is_optimal, nth_optimal
+from lastother.rounds import colors_left_by, lineup_after_rounds, round_period, rounds_until_one_color
+from tests.helpers import L, LETTERS, M, N
 
 # The same people in another order and with other colors.
 OTHER = [(2, "b"), (1, "b"), (0, "d"), (3, "a")]
@@ -74,6 +77,29 @@ CASES = [
     (greatest_bound, {"lineup": L}, BOUND, "lineup", OTHER, {"b": 0, "d": 0, "a": 1}),
     (bound_value, {"lineup": L, "colors": "c", "bound": BOUND}, 4, "bound", {"c": 0, "a": 0, "b": 0}, 3),
     (bound_value, {"lineup": L, "colors": "c", "bound": BOUND}, 4, "lineup", [(0, "b"), (1, "a"), (2, "c")], 3),
+    (count_optimal, {"lineup": L, "colors": "c"}, 10, "lineup", TURNED, 6),
+    (nth_optimal, {"lineup": L, "colors": "c", "index": 4}, [1, 0, 1, 3], "lineup", TURNED, [2, 0, 1]),
+    (nth_optimal, {"lineup": L, "colors": "abc", "index": 0}, [], "lineup", [(1, "a"), (0, "d")], [0]),
+    (is_optimal, {"lineup": L, "colors": "c", "value": [1, 3, 0, 1]}, True, "value", [3, 1, 0, 1], False),
+    (is_optimal, {"lineup": L, "colors": "c", "value": [1, 3, 0, 1]}, True, "lineup", TURNED, False),
+    (improving_people, {"lineup": L, "colors": "c"}, [0, 1], "lineup", TURNED, [0, 1, 2]),
+    (improving_people, {"lineup": L, "colors": "abc"}, [], "lineup", [(1, "a"), (0, "d")], [0]),
+    (fewest_after_each, {"lineup": L, "colors": "c"}, [3, 3, None, 4], "lineup", TURNED, [2, 2, 2, None]),
+    (color_history, {"lineup": L, "calls": [1, 0]},
+     [[(0, "a"), (2, "c")], [(0, "b"), (1, "a")], [(0, "c")], [(0, "a")]],
+     "calls", [2], [[(0, "a")], [(0, "b")], [(0, "c"), (1, "a")], [(0, "a")]]),
+    (color_history, {"lineup": L, "calls": []}, [[(0, "a")], [(0, "b")], [(0, "c")], [(0, "a")]],
+     "lineup", [(1, "x"), (0, "x")], [[(0, "x")], [(0, "x")]]),
+    (changed_without, {"lineup": L, "calls": [1, 0], "number": 1}, [0, 1], "calls", [2, 0], [2]),
+    (redundant_calls, {"lineup": N, "calls": [1, 0]}, [2], "calls", [0, 0], [1, 2]),
+    (redundant_calls, {"lineup": N, "calls": []}, [], "calls", [0, 0], [1, 2]),
+    (can_swap_calls, {"lineup": L, "calls": [1, 0], "number": 1}, False, "calls", [1, 2], True),
+    (round_period, {"lineup": M, "calls": [0]}, (1, 2), "calls", [0, 1], (2, 1)),
+    (lineup_after_rounds, {"lineup": M, "calls": [0], "rounds": 10 ** 30}, [(0, "c"), (1, "b"), (2, "c")],
+     "calls", [0, 1], [(1, "c"), (0, "c"), (2, "c")]),
+    (lineup_after_rounds, {"lineup": M, "calls": [0], "rounds": 0}, M, "lineup", OTHER, OTHER),
+    (rounds_until_one_color, {"lineup": M, "calls": [0, 1]}, 2, "calls", [0], None),
+    (colors_left_by, {"lineup": M, "order": [1, 0, 2]}, "ac", "order", [0, 1, 2], "bc"),
 ]
 
 WRONG = [(0, "a"), (2, "b"), (1, "B")]
@@ -124,6 +150,36 @@ FAILURES = [
     (bound_value, {"lineup": WRONG, "colors": "a", "bound": {"a": 0}}, InvalidLineupError),
     (bound_value, {"lineup": L, "colors": ["b", "a"], "bound": BOUND}, InvalidColorsError),
     (bound_value, {"lineup": L, "colors": "c", "bound": {"b": 0, "c": 2, "a": 0}}, InvalidBoundError),
+    (count_optimal, {"lineup": WRONG, "colors": "a"}, InvalidLineupError),
+    (count_optimal, {"lineup": L, "colors": ["b", "a"]}, InvalidColorsError),
+    (nth_optimal, {"lineup": WRONG, "colors": "a", "index": 0}, InvalidLineupError),
+    (nth_optimal, {"lineup": L, "colors": ["b", "a"], "index": 0}, InvalidColorsError),
+    (nth_optimal, {"lineup": L, "colors": "c", "index": [4]}, InvalidNumberError),
+    (is_optimal, {"lineup": WRONG, "colors": "a", "value": [0]}, InvalidLineupError),
+    (is_optimal, {"lineup": L, "colors": ["b", "a"], "value": [0]}, InvalidColorsError),
+    (improving_people, {"lineup": WRONG, "colors": "a"}, InvalidLineupError),
+    (improving_people, {"lineup": L, "colors": ["b", "a"]}, InvalidColorsError),
+    (fewest_after_each, {"lineup": WRONG, "colors": "a"}, InvalidLineupError),
+    (fewest_after_each, {"lineup": L, "colors": ["b", "a"]}, InvalidColorsError),
+    (color_history, {"lineup": WRONG, "calls": [0]}, InvalidLineupError),
+    (color_history, {"lineup": L, "calls": [1, 0, 4]}, InvalidCallsError),
+    (changed_without, {"lineup": WRONG, "calls": [0], "number": 1}, InvalidLineupError),
+    (changed_without, {"lineup": L, "calls": [1, 0, 4], "number": 1}, InvalidCallsError),
+    (changed_without, {"lineup": L, "calls": [1, 0], "number": [3]}, InvalidNumberError),
+    (redundant_calls, {"lineup": WRONG, "calls": [0]}, InvalidLineupError),
+    (redundant_calls, {"lineup": L, "calls": [1, 0, 4]}, InvalidCallsError),
+    (can_swap_calls, {"lineup": WRONG, "calls": [0, 1], "number": 1}, InvalidLineupError),
+    (can_swap_calls, {"lineup": L, "calls": [1, 0, 4], "number": 1}, InvalidCallsError),
+    (can_swap_calls, {"lineup": L, "calls": [1, 0], "number": 2}, InvalidNumberError),
+    (round_period, {"lineup": WRONG, "calls": [0]}, InvalidLineupError),
+    (round_period, {"lineup": L, "calls": []}, InvalidCallsError),
+    (lineup_after_rounds, {"lineup": WRONG, "calls": [0], "rounds": 1}, InvalidLineupError),
+    (lineup_after_rounds, {"lineup": L, "calls": [1, 0, 4], "rounds": 1}, InvalidCallsError),
+    (lineup_after_rounds, {"lineup": L, "calls": [1, 0], "rounds": [1]}, InvalidNumberError),
+    (rounds_until_one_color, {"lineup": WRONG, "calls": [0]}, InvalidLineupError),
+    (rounds_until_one_color, {"lineup": L, "calls": [1, 0, 4]}, InvalidCallsError),
+    (colors_left_by, {"lineup": WRONG, "order": [2, 1, 0]}, InvalidLineupError),
+    (colors_left_by, {"lineup": L, "order": [2, 1, 0, 0]}, InvalidOrderError),
 ]
 
 
@@ -137,10 +193,12 @@ def refill(value, content):
 
 
 def parts(result):
-    """The lists and dicts of a result that can be changed."""
-    if type(result) is tuple:
-        return [part for part in result if type(part) in (list, dict)]
-    return [result] if type(result) in (list, dict) else []
+    """The lists and dicts of a result that can be changed, down to those within it."""
+    found = [result] if type(result) in (list, dict) else []
+    if type(result) in (list, tuple):
+        for item in result:
+            found.extend(parts(item))
+    return found
 
 
 def spoil(part):
@@ -194,6 +252,7 @@ class Values(unittest.TestCase):
             self.assertIs(is_lineup(given), False)
             self.assertIs(is_chain(L, "c", given), False)
             self.assertIs(is_bound(L, given), False)
+            self.assertIs(is_optimal(L, "c", given), False)
             self.assertEqual(given, value)
 
     def test_the_same_argument_changed_in_place(self):
@@ -233,6 +292,21 @@ class Values(unittest.TestCase):
         after = lineup_after(once, calls_for_chain(once, "c", chain))
         self.assertEqual(fewest_calls(after, "c"), 0)
         self.assertEqual(bound_value(once, "c", greatest_bound(once)), fewest_calls(once, "c"))
+        calls = nth_optimal(once, "c", count_optimal(once, "c") - 1)
+        self.assertTrue(is_optimal(once, "c", calls))
+        self.assertEqual(changed_without(once, calls, len(calls)), [calls[-1]])
+        self.assertTrue(is_lineup(lineup_after_rounds(once, calls, 10 ** 30)))
+
+    def test_a_result_of_any_size_may_be_passed_back(self):
+        lineup = [(59 - k, LETTERS[min(k, 25)]) for k in range(60)]
+        calls = calls_for_chain(lineup, "z", list(LETTERS[:25]))
+        self.assertGreater(len(calls), 200)
+        self.assertEqual(fewest_calls(lineup_after(lineup, calls), "z"), 0)
+        self.assertEqual(sum(len(entries) for entries in color_history(lineup, calls)), 60 + len(calls))
+        self.assertIs(is_optimal(lineup, "z", calls), len(calls) == fewest_calls(lineup, "z"))
+        self.assertEqual(changed_without(lineup, calls, len(calls)), [calls[-1]])
+        self.assertEqual(redundant_calls(lineup, calls[:20]), [])
+        self.assertEqual(rounds_until_one_color(lineup, calls), 1)
 
 
 if __name__ == "__main__":
