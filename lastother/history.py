@@ -27,8 +27,6 @@ def changed_without(lineup, calls, number):
 
 def redundant_calls(lineup, calls):
     """Return the numbers of the calls that can be left out, each alone, without any other color."""
-    check_lineup(lineup)
-    check_calls(lineup, calls)
     before = colors_after(lineup, calls)
     numbers = range(1, len(calls) + 1)
     return [number for number in numbers if colors_after(lineup, calls_without(calls, number)) == before]

@@ -2,7 +2,7 @@
 
 from lastother.basics import LARGEST_NUMBER, check_number
 from lastother.calls import apply_call, is_person, lineup_after
-from lastother.colorsets import check_colors, foremost_color, people_outside
+from lastother.colorsets import check_colors, people_outside
 from lastother.fewest import fewest_calls
 from lastother.lineups import check_lineup
 from lastother.openings import optimal_by_first_call
@@ -12,7 +12,7 @@ def count_optimal(lineup, colors):
     """Return the number of optimal call lists."""
     check_lineup(lineup)
     check_colors(colors)
-    if foremost_color(lineup, colors) is not None and not people_outside(lineup, colors):
+    if not people_outside(lineup, colors):
         return 1
     return sum(optimal_by_first_call(lineup, colors))
 

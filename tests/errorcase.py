@@ -2,7 +2,7 @@
 
 import unittest
 
-from lastother.errors import InvalidCallsError, LineupError
+from lastother.errors import InvalidCallsError, InvalidTextError, LineupError
 from tests.helpers import L, WRONG_INTEGERS, WRONG_LISTS
 
 
@@ -18,9 +18,15 @@ class ErrorCase(unittest.TestCase):
 
     def assert_index(self, index, function, *args):
         """Check that InvalidCallsError is raised with exactly this index."""
-        found = self.assert_raises(InvalidCallsError, function, *args).index
-        self.assertEqual(found, index)
-        self.assertIs(type(found), type(index))
+        self.assert_same(index, self.assert_raises(InvalidCallsError, function, *args).index)
+
+    def assert_text_index(self, index, function, *args):
+        """Check that InvalidTextError is raised with exactly this index."""
+        self.assert_same(index, self.assert_raises(InvalidTextError, function, *args).index)
+
+    def assert_same(self, expected, found):
+        self.assertEqual(found, expected)
+        self.assertIs(type(found), type(expected))
 
     def assert_wrong_calls(self, calls_with):
         """Check the indexes of wrong call lists; calls_with gives what to call with a lineup and a call list."""

@@ -8,6 +8,7 @@ from lastother.calls import color_taken, colors_taken, colors_taken_by_each, lin
 from lastother.certificates import bound_value, calls_for_chain, chain_cost, greatest_bound
 from lastother.fewest import best_chain, fewest_calls
 from lastother.history import color_history
+from lastother.inverse import can_follow_call
 from lastother.optimal import count_optimal, improving_people, is_optimal, nth_optimal
 from lastother.rounds import lineup_after_rounds, round_period
 from tests.helpers import color_sets, long_calls, outside_by_hand, small_lineups
@@ -49,6 +50,7 @@ class OnlyTheOthers(unittest.TestCase):
             for lineup in lineups:
                 reversible = lineup[0][1] in first_two_colors(lineup[1:])
                 self.assertEqual(lineup in after_a_call, reversible, lineup)
+                self.assertIs(can_follow_call(lineup), reversible)
 
 
 class CalledPeople(unittest.TestCase):

@@ -42,6 +42,19 @@ FUNCTIONS = {
         "round_period": ["lineup", "calls"], "lineup_after_rounds": ["lineup", "calls", "rounds"],
         "rounds_until_one_color": ["lineup", "calls"], "colors_left_by": ["lineup", "order"],
     },
+    "inverse": {
+        "can_follow_call": ["lineup"], "possible_old_colors": ["lineup"],
+        "lineup_before": ["lineup", "position", "color"], "count_lineups": ["people", "letters"],
+        "count_lineups_after_call": ["people", "letters"],
+    },
+    "small": {
+        "count_reachable": ["lineup"], "fewest_calls_between": ["lineup", "target"],
+        "shortest_calls_between": ["lineup", "target"], "farthest_reachable": ["lineup"],
+    },
+    "text": {
+        "lineup_to_text": ["lineup"], "lineup_from_text": ["text"], "calls_to_text": ["calls"],
+        "calls_from_text": ["text"],
+    },
 }
 CLASSES = {
     "errors": [
@@ -50,6 +63,12 @@ CLASSES = {
         "InvalidPositionError", "EmptyHistoryError", "InvalidCallsError", "TooManyPeopleError",
         "InvalidTextError",
     ],
+    "session": ["Session"],
+}
+# The methods of a session with their arguments.
+METHODS = {
+    "__init__": ["lineup"], "call": ["person"], "undo": [], "redo": [], "current_lineup": [], "current_colors": [],
+    "done_calls": [], "effective_count": [], "called_people": [], "duplicate": [], "__len__": [], "__eq__": ["other"],
 }
 FOLDER = os.path.join(os.path.dirname(os.path.dirname(os.path.abspath(__file__))), "lastother")
 
@@ -81,6 +100,15 @@ class Interface(unittest.TestCase):
             for name in classes:
                 with self.subTest(file=file, name=name):
                     self.assertIsInstance(nodes.get(name), ast.ClassDef)
+
+    def test_methods_are_defined_in_the_class_itself(self):
+        node = defined_in("session")["Session"]
+        self.assertEqual(node.bases, [])
+        methods = {item.name: item for item in node.body if isinstance(item, ast.FunctionDef)}
+        for name, arguments in METHODS.items():
+            with self.subTest(name):
+                self.assertIn(name, methods)
+                self.assertEqual([item.arg for item in methods[name].args.args], ["self"] + arguments)
 
 
 class Files(unittest.TestCase):
